@@ -1,0 +1,1 @@
+"""Lotsandties: a file store with a log, books of rules, and a checker."""

@@ -1,0 +1,103 @@
+"""Folders: their entries, which give names to nodes."""
+
+from lotsandties.errors import FolderFull, NameTaken, NoSuchName
+from lotsandties.fields import MAKING, SIZE
+from lotsandties.nodes import node_cell, put_node_cell
+from lotsandties.places import drop_place, place_block, take_logged
+from lotsandties.texts import code_name, name_code
+
+BLOCK_ENTRIES = 4
+FOLDER_PLACES = 2
+MOST_NAMES = 8
+# A tie is the making of a node times this number plus the node.
+TIE_BASE = 64
+
+
+def _entry_spots(image, n):
+    """Return the tuples of block and number of all entries of folder n, also of the empty ones."""
+    blocks = [place_block(image, n, o) for o in range(FOLDER_PLACES)]
+    return [(x, j) for x in blocks if x for j in range(BLOCK_ENTRIES)]
+
+
+def _entry_cells(image, spot):
+    """Return the code and the tie of an entry."""
+    x, j = spot
+    return (image.cells[x][2 * j], image.cells[x][2 * j + 1])
+
+
+def _put_entry(image, spot, code, tie):
+    x, j = spot
+    image.cells[x][2 * j] = code
+    image.cells[x][2 * j + 1] = tie
+
+
+def _find_spot(image, n, name):
+    """Return the entry of folder n that has a name, or None."""
+    code = name_code(name)
+    for spot in _entry_spots(image, n):
+        if _entry_cells(image, spot)[0] == code:
+            return spot
+    return None
+
+
+def _named_spot(image, n, name):
+    spot = _find_spot(image, n, name)
+    if spot is None:
+        raise NoSuchName(f"the folder does not have the name {name}")
+    return spot
+
+
+def _tie_of(image, child):
+    return node_cell(image, child, MAKING) * TIE_BASE + child
+
+
+def _add_to_size(image, n, step):
+    put_node_cell(image, n, SIZE, node_cell(image, n, SIZE) + step)
+
+
+def folder_entries(image, n):
+    """Return the tuples of name and child of folder n, in the order of its entries."""
+    entries = [_entry_cells(image, spot) for spot in _entry_spots(image, n)]
+    return [(code_name(code), tie % TIE_BASE) for code, tie in entries if code or tie]
+
+
+def find_child(image, n, name):
+    """Return the child with a name in folder n, or 0."""
+    spot = _find_spot(image, n, name)
+    return 0 if spot is None else _entry_cells(image, spot)[1] % TIE_BASE
+
+
+def _empty_spot(image, n):
+    """Return an empty entry of folder n; a block is taken if it has none."""
+    spots = [spot for spot in _entry_spots(image, n) if _entry_cells(image, spot) == (0, 0)]
+    if spots:
+        return spots[0]
+    o = 1 if place_block(image, n, 0) else 0
+    return (take_logged(image, n, o), 0)
+
+
+def add_entry(image, n, name, child):
+    """Give a name in folder n to a node."""
+    if _find_spot(image, n, name) is not None:
+        raise NameTaken(f"the folder has the name {name}")
+    if len(folder_entries(image, n)) == MOST_NAMES:
+        raise FolderFull("the folder has eight names")
+    spot = _empty_spot(image, n)
+    _put_entry(image, spot, name_code(name), _tie_of(image, child))
+    _add_to_size(image, n, 1)
+
+
+def put_child(image, n, name, child):
+    """Let a name of folder n lead to another node."""
+    spot = _named_spot(image, n, name)
+    _put_entry(image, spot, name_code(name), _tie_of(image, child))
+
+
+def drop_entry(image, n, name):
+    """Remove a name from folder n."""
+    spot = _named_spot(image, n, name)
+    _put_entry(image, spot, 0, 0)
+    _add_to_size(image, n, -1)
+    if not any(image.cells[spot[0]]):
+        o = 0 if place_block(image, n, 0) == spot[0] else 1
+        drop_place(image, n, o)

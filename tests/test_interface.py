@@ -1,0 +1,103 @@
+"""The names, arguments and kinds of values that the document's interface lists."""
+
+import importlib
+import inspect
+import unittest
+
+FUNCTIONS = {
+    "texts": ["read_number(word, most)", "split_words(line)", "is_name(text)", "is_path(text)", "name_code(name)",
+              "code_name(code)"],
+    "deeds": ["check_deed(deed)", "deed_text(deed)", "read_deed(text)"],
+    "rows": ["check_row(row)", "row_text(row)", "read_row(text)", "script_text(rows)", "read_script(text)"],
+    "records": ["check_record(record)", "copy_record(lot, block, cells)", "mark_record(lot, copies, revokes=())",
+                "fits_plan(record, plan)", "record_text(record)", "read_record(text)"],
+    "cuts": ["keeps(numbers)", "cut_disks(disk)", "differences(first, second)"],
+    "disktext": ["disk_text(disk)", "read_disk(text)"],
+    "nodes": ["node_cell(image, n, field)", "put_node_cell(image, n, field, value)", "made_nodes(image)",
+              "make_node(image, kind, owner)", "unmake_node(image, n)"],
+    "places": ["place_block(image, n, o)", "take_place(image, n, o)", "take_logged(image, n, o)",
+               "drop_place(image, n, o)", "held_blocks(image, *nodes)"],
+    "sizes": ["unfinished(image, n)", "set_size(image, n, size)", "free_piece(image, n)", "listed(image)",
+              "enlist(image, n)", "delist(image, n)"],
+    "wordrows": ["read_words(image, n, at, count)", "file_words(image, n)", "write_words(image, n, at, words)"],
+    "folders": ["folder_entries(image, n)", "find_child(image, n, name)", "add_entry(image, n, name, child)",
+                "put_child(image, n, name, child)", "drop_entry(image, n, name)"],
+    "signs": ["sign_path(image, n)", "put_sign_path(image, n, path)"],
+}
+
+GENERATORS = {"cuts": ["keeps", "cut_disks"]}
+
+METHODS = {
+    ("plan", "Plan"): ["__init__(self, blocks, *, nodes, slots)", "read(line)", "text(self)", "map_place(self, x)",
+                       "node_block(self, n)", "data_blocks(self)"],
+    ("rulesets", "RuleSet"): ["__init__(self, names)", "__contains__(self, name)", "__iter__(self)", "text(self)"],
+    ("books", "Book"): ["read(text)", "of_number(number)", "full()", "__or__(self, other)", "__sub__(self, other)"],
+    ("image", "Image"): ["__init__(self, plan)", "fresh(plan)", "of_cells(plan, rows)", "begin(self, wish, barred)",
+                         "settle(self, before)", "give(self, x, owner)", "twin(self)", "take(self, kind, owner)",
+                         "free_blocks(self)", "kind(self, x)", "identity(self, x)"],
+    ("disk", "Disk"): ["__init__(self, plan)", "of_image(cls, image)", "issue(self, place, what)",
+                       "busy(self, place)", "pending(self)", "sure(self, number)", "barrier(self)",
+                       "move_head(self, p)", "cut(self, keep=())", "twin(self)"],
+}
+
+STATIC = {("plan", "Plan"): ["read"], ("books", "Book"): ["read", "of_number", "full"],
+          ("image", "Image"): ["fresh", "of_cells"]}
+
+REFUSED = """NoSuchName NameTaken NotAFolder NotAFile NotASign FolderNotEmpty FolderFull NodesFull BlocksFull
+    OverQuota TooLong TooManyLinks TooManySigns IntoItself Unfinished ListFull RootFixed NotOnList NotOpen InUse"""
+NOT_NOW = """LotClosing NoLotClosing NotDue MarkIssued NotHeld PlaceBusy NoWrite LogFull LogEmpty NothingToUndo"""
+
+
+def load(module):
+    return importlib.import_module(f"lotsandties.{module}")
+
+
+def written(name, function):
+    return f"{name}{inspect.signature(function)}"
+
+
+class InterfaceTest(unittest.TestCase):
+    def test_functions_stand_in_their_files(self):
+        for module, forms in FUNCTIONS.items():
+            for form in forms:
+                name = form.split("(")[0]
+                function = getattr(load(module), name)
+                self.assertEqual(function.__module__, f"lotsandties.{module}")
+                self.assertEqual(written(name, function), form)
+                generator = name in GENERATORS.get(module, [])
+                self.assertEqual(inspect.isgeneratorfunction(function), generator, form)
+
+    def test_methods_stand_in_their_classes(self):
+        for (module, name), forms in METHODS.items():
+            owner = getattr(load(module), name)
+            self.assertEqual(owner.__module__, f"lotsandties.{module}")
+            for form in forms:
+                method = vars(owner)[form.split("(")[0]]
+                static = form.split("(")[0] in STATIC.get((module, name), [])
+                self.assertEqual(isinstance(method, staticmethod), static, form)
+                function = method.__func__ if isinstance(method, (staticmethod, classmethod)) else method
+                self.assertEqual(written(form.split("(")[0], function), form)
+
+    def test_other_parts_of_classes(self):
+        disk = load("disk").Disk
+        self.assertIsInstance(vars(disk)["quiet"], property)
+        self.assertIsInstance(vars(disk)["of_image"], classmethod)
+        self.assertEqual(load("books").Book.__bases__, (load("rulesets").RuleSet,))
+
+    def test_errors(self):
+        errors = load("errors")
+        self.assertEqual(errors.StoreError.__bases__, (ValueError,))
+        for name in ("BadText", "BadValue", "Refused", "NotNow", "NotLet"):
+            self.assertEqual(getattr(errors, name).__bases__, (errors.StoreError,))
+        for base, names in ((errors.Refused, REFUSED), (errors.NotNow, NOT_NOW)):
+            for name in names.split():
+                error = getattr(errors, name)
+                self.assertEqual(error.__bases__, (base,))
+                self.assertEqual(error.__module__, "lotsandties.errors")
+                self.assertEqual(str(error("why")), "why")
+        self.assertEqual(errors.NotLet("frozen").rule, "frozen")
+        self.assertIsInstance(str(errors.NotLet("frozen")), str)
+
+
+if __name__ == "__main__":
+    unittest.main()
