@@ -67,9 +67,25 @@ def find_child(image, n, name):
     return 0 if spot is None else _entry_cells(image, spot)[1] % TIE_BASE
 
 
+def _is_empty(image, spot):
+    return _entry_cells(image, spot) == (0, 0)
+
+
+def has_empty_entry(image, n):
+    """Tell if a block of folder n has an empty entry."""
+    return any(_is_empty(image, spot) for spot in _entry_spots(image, n))
+
+
+def has_neighbours(image, n, name):
+    """Tell if the block of the entry with a name in folder n has other entries."""
+    own = _named_spot(image, n, name)
+    near = [spot for spot in _entry_spots(image, n) if spot[0] == own[0] and spot != own]
+    return not all(_is_empty(image, spot) for spot in near)
+
+
 def _empty_spot(image, n):
     """Return an empty entry of folder n; a block is taken if it has none."""
-    spots = [spot for spot in _entry_spots(image, n) if _entry_cells(image, spot) == (0, 0)]
+    spots = [spot for spot in _entry_spots(image, n) if _is_empty(image, spot)]
     if spots:
         return spots[0]
     o = 1 if place_block(image, n, 0) else 0

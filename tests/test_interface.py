@@ -23,9 +23,35 @@ FUNCTIONS = {
     "folders": ["folder_entries(image, n)", "find_child(image, n, name)", "add_entry(image, n, name, child)",
                 "put_child(image, n, name, child)", "drop_entry(image, n, name)"],
     "signs": ["sign_path(image, n)", "put_sign_path(image, n, path)"],
+    "walks": ["path_names(path)", "walk(image, path, *, follow=True)", "visited(image, path, *, follow=True)",
+              "walk_parent(image, path)", "walk_file(image, path)", "is_inside(image, top, n)"],
+    "naming": ["make_name(image, path, kind, owner, *, text='')", "resign_name(image, path, text)",
+               "link_name(image, path, new)", "unlink_name(image, path)", "remove_folder(image, path)",
+               "rename_name(image, path, new)"],
+    "owners": ["used_blocks(image, owner)", "limit_of(image, owner)", "counted_blocks(image, owner)",
+               "put_limit(image, owner, blocks)", "change_owner(image, n, owner)"],
+    "room": ["room_needed(image, deed)"],
+    "removing": ["begin_removal(image, n)", "one_piece(image, n)"],
+    "acting": ["do_deed(image, deed, *, wish=0, barred=())", "do_deeds(image, *deeds, wish=0, barred=())"],
+    "reading": ["read_tree(image)", "read_node_words(image, n)", "rows_text(rows)", "tree_text(image)"],
+    "carrying": ["carried(image, plan)"],
+    "rulings": ["due_blocks(image, committed)", "revoked_blocks(image, committed)",
+                "new_plain_blocks(image, committed)", "same_logged(image, committed)",
+                "present_number(number, image, committed, closing)", "live_lot(window, x, *, lapse)",
+                "barred_blocks(book, committed, closing, window)",
+                "unsent_blocks(image, committed, home_ids, busy)",
+                "may_send_words(x, holding, committed, closing)",
+                "may_leave(window, committed, home_ids, busy)", "may_tell(image, committed, home_ids, busy)"],
+    "playing": ["play(store, rows)", "steps(store, rows)"],
+    "storemoves": ["flush(store)"],
+    "logreading": ["found_marks(disk)", "live_copy(marks, x, *, lapse)", "cells_after(disk, marks, x, *, lapse)",
+                   "slots_read(disk, *, lapse)"],
+    "comingup": ["image_after(disk, *, lapse)", "come_up(disk, book)"],
+    "finishing": ["finish(store)"],
+    "allcuts": ["cut_stores(store)", "cut_fault(store)"],
 }
 
-GENERATORS = {"cuts": ["keeps", "cut_disks"]}
+GENERATORS = {"cuts": ["keeps", "cut_disks"], "walks": ["visited"], "playing": ["steps"], "allcuts": ["cut_stores"]}
 
 METHODS = {
     ("plan", "Plan"): ["__init__(self, blocks, *, nodes, slots)", "read(line)", "text(self)", "map_place(self, x)",
@@ -38,6 +64,18 @@ METHODS = {
     ("disk", "Disk"): ["__init__(self, plan)", "of_image(cls, image)", "issue(self, place, what)",
                        "busy(self, place)", "pending(self)", "sure(self, number)", "barrier(self)",
                        "move_head(self, p)", "cut(self, keep=())", "twin(self)"],
+    ("plaintree", "PlainTree"): ["__init__(self)", "do(self, deed)", "rows(self)", "text(self)"],
+    ("chronicle", "Chronicle"): ["__init__(self, image, *, number=0)", "__contains__(self, number)",
+                                 "note_deed(self, image)", "note_close(self, number, image)",
+                                 "note_told(self, number)", "versions(self, x, holding)",
+                                 "fault(self, number, image)"],
+    ("lots", "Lot"): ["__init__(self, number, image)", "keep_copy(self, x, slot, write, identity)",
+                      "keep_mark(self, slot, write, revokes)", "used_slots(self)"],
+    ("store", "Store"): ["__init__(self, plan, book)",
+                         "resumed(cls, book, disk, image, number, window, home_ids)", "pool(self, kind)",
+                         "do(self, deed, *, wish=0)", "close(self)", "due(self)", "uncopied(self)", "copy(self, x)",
+                         "mark(self)", "sure(self, w)", "barrier(self)", "home(self, x)", "early(self, x)",
+                         "words(self, x)", "room(self)", "told(self)", "cut(self, keep)"],
 }
 
 STATIC = {("plan", "Plan"): ["read"], ("books", "Book"): ["read", "of_number", "full"],
@@ -82,6 +120,9 @@ class InterfaceTest(unittest.TestCase):
         disk = load("disk").Disk
         self.assertIsInstance(vars(disk)["quiet"], property)
         self.assertIsInstance(vars(disk)["of_image"], classmethod)
+        store = load("store").Store
+        self.assertIsInstance(vars(store)["present"], property)
+        self.assertIsInstance(vars(store)["resumed"], classmethod)
         self.assertEqual(load("books").Book.__bases__, (load("rulesets").RuleSet,))
 
     def test_errors(self):
