@@ -1,4 +1,8 @@
-"""Deeds by chance, for tests of many steps."""
+"""Deeds and rows by chance, for tests of many steps."""
+
+from lotsandties.plan import Plan
+from lotsandties.playing import play
+from lotsandties.store import Store
 
 NAMES = "abc"
 KINDS = (
@@ -42,3 +46,41 @@ def random_deed(chance):
     if kind == "limit":
         return (kind, chance.randrange(4), chance.choice((0, 0, 1, 2, 3, 6)))
     return (kind, chance.randrange(1, 8)) if kind in ("shut", "piece") else (kind, path)
+
+
+ROWS = (
+    "do do do do do do close copy copy copies copies mark mark home homes early words sent room told sure sure barrier"
+).split()
+
+
+def random_rows(chance, store):
+    """Rows that a store may be asked to do next, mostly such as can be done."""
+    kind = chance.choice(ROWS)
+    blocks = range(store.plan.blocks)
+    if kind == "do":
+        return [("do", chance.randrange(store.plan.blocks), random_deed(chance))]
+    if kind in ("close", "mark", "room", "told", "barrier"):
+        return [(kind,)]
+    if kind == "copies":
+        return [("copy", x) for x in store.due()]
+    if kind == "homes":
+        return [("home", x) for x in blocks if store.home_ids[x] != store.committed.identity(x)]
+    if kind == "sent":
+        return [("words", x) for x in blocks if store.image.kind(x) == 2]
+    if kind == "sure":
+        pending = store.disk.pending()
+        return [("sure", chance.choice(pending)[0] if pending else 1)]
+    if kind == "copy":
+        return [("copy", chance.choice(store.due() or [0]))]
+    return [(kind, chance.choice(blocks))]
+
+
+def random_store(chance, book, many):
+    """A store after rows by chance, and these rows."""
+    store = Store(Plan(chance.choice((14, 17, 20)), nodes=chance.choice((4, 6)), slots=chance.choice((21, 40))), book)
+    played = []
+    for _ in range(many):
+        rows = random_rows(chance, store)
+        play(store, rows)
+        played.extend(rows)
+    return store, played
