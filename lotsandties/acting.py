@@ -1,11 +1,10 @@
 """Doing deeds on images."""
 
 from lotsandties.deeds import check_deed
-from lotsandties.errors import NotOpen, TooLong, Unfinished
+from lotsandties.errors import NotOpen, Unfinished
 from lotsandties.fields import FILE, FOLDER, SIGN
 from lotsandties.naming import link_name, make_name, remove_folder, rename_name, resign_name, unlink_name
 from lotsandties.owners import change_owner, put_limit
-from lotsandties.plan import Plan
 from lotsandties.removing import begin_removal, has_links, is_in_use, one_piece
 from lotsandties.sizes import enlist, free_piece, set_size, unfinished
 from lotsandties.walks import walk, walk_file
@@ -66,8 +65,6 @@ def _do_cut(image, deed):
     n = walk_file(image, deed[1])
     if unfinished(image, n):
         raise Unfinished("the file has blocks behind its size")
-    if deed[2] > Plan.LONGEST:
-        raise TooLong("a file has at most 80 cells")
     set_size(image, n, deed[2])
     freed = free_piece(image, n)
     if unfinished(image, n):

@@ -1,12 +1,11 @@
 """Carrying a tree to an image of another plan."""
 
-from lotsandties.errors import BlocksFull, NodesFull
-from lotsandties.fields import FILE, FOLDER, KIND, LINKS, OWNER, ROOT, SIGN, SIZE
-from lotsandties.folders import BLOCK_ENTRIES, add_entry, folder_entries
+from lotsandties.fields import FILE, KIND, LINKS, OWNER, ROOT, SIGN, SIZE
+from lotsandties.folders import add_entry, folder_entries
 from lotsandties.image import Image
 from lotsandties.nodes import make_node, node_cell, put_node_cell
 from lotsandties.owners import limit_of, put_limit
-from lotsandties.places import NODE_PLACES, PLACE_COUNT, place_block, take_place
+from lotsandties.places import PLACE_COUNT, place_block, take_place
 from lotsandties.plan import Plan
 from lotsandties.reading import tree_paths
 from lotsandties.signs import put_sign_path, sign_path
@@ -17,23 +16,6 @@ def _carried_places(image, n):
     """Return the places of a file that have a block and are not behind the size."""
     size = node_cell(image, n, SIZE)
     return [o for o in range(PLACE_COUNT) if Plan.WIDTH * o < size and place_block(image, n, o)]
-
-
-def _blocks_needed(image, n):
-    kind = node_cell(image, n, KIND)
-    if kind == FOLDER:
-        return (len(folder_entries(image, n)) + BLOCK_ENTRIES - 1) // BLOCK_ENTRIES
-    if kind == SIGN:
-        return 1
-    places = _carried_places(image, n)
-    return len(places) + (1 if any(o >= NODE_PLACES for o in places) else 0)
-
-
-def _check_fits(image, nodes, plan):
-    if len(nodes) > plan.nodes:
-        raise NodesFull("the tree has more nodes than the plan")
-    if sum([_blocks_needed(image, n) for n in nodes]) > len(plan.data_blocks()):
-        raise BlocksFull("the tree needs more blocks than the plan has")
 
 
 def _make_nodes(image, nodes, after):
@@ -68,10 +50,10 @@ def _carry_content(image, n, after, numbers):
 def carried(image, plan):
     """Return an image of a plan with the tree rows and limits of another image."""
     nodes = list(first_paths(tree_paths(image)))
-    _check_fits(image, nodes, plan)
     before = Image.fresh(plan)
     after = before.twin()
     after.begin(0, ())
+    # All nodes come before the first block: a lack of nodes is told first.
     numbers = _make_nodes(image, nodes, after)
     for n in nodes:
         _carry_content(image, n, after, numbers)

@@ -1,7 +1,7 @@
 """Folders: their entries, which give names to nodes."""
 
 from lotsandties.errors import FolderFull, NameTaken, NoSuchName
-from lotsandties.fields import MAKING, SIZE
+from lotsandties.fields import FOLDER, KIND, MAKING, SIZE
 from lotsandties.nodes import node_cell, put_node_cell
 from lotsandties.places import drop_place, place_block, take_logged
 from lotsandties.texts import code_name, name_code
@@ -59,6 +59,11 @@ def folder_entries(image, n):
     """Return the tuples of name and child of folder n, in the order of its entries."""
     entries = [_entry_cells(image, spot) for spot in _entry_spots(image, n)]
     return [(code_name(code), tie % TIE_BASE) for code, tie in entries if code or tie]
+
+
+def names_behind(image, n):
+    """Return the entries of node n if it is a folder, and none for another node."""
+    return folder_entries(image, n) if node_cell(image, n, KIND) == FOLDER else []
 
 
 def find_child(image, n, name):

@@ -29,11 +29,6 @@ def _check_not_taken(image, folder, name):
         raise NameTaken(f"the folder has the name {name}")
 
 
-def _check_not_full(image, folder):
-    if len(folder_entries(image, folder)) == MOST_NAMES:
-        raise FolderFull("the folder has eight names")
-
-
 def _named_child(image, folder, name):
     child = find_child(image, folder, name)
     if child == 0:
@@ -65,7 +60,8 @@ def make_name(image, path, kind, owner, *, text=""):
     """Make a node with a name and return it."""
     folder, name = walk_parent(image, path)
     _check_not_taken(image, folder, name)
-    _check_not_full(image, folder)
+    if len(folder_entries(image, folder)) == MOST_NAMES:
+        raise FolderFull("the folder has eight names")
     # Tried on a twin first: a block may be refused when the node is made and other blocks are taken.
     _add_node(image.twin(), folder, name, kind, owner, text)
     return _add_node(image, folder, name, kind, owner, text)
@@ -88,7 +84,6 @@ def link_name(image, path, new):
     _check_not_taken(image, folder, name)
     if node_cell(image, n, LINKS) >= MOST_LINKS:
         raise TooManyLinks("a node has at most 60 links")
-    _check_not_full(image, folder)
     add_entry(image, folder, name, n)
     _add_link(image, n)
 
@@ -129,7 +124,7 @@ def rename_name(image, path, new):
     former = find_child(image, target, new_name)
     if former == moved:
         return 0
-    if _is_folder(image, moved) and is_inside(image, moved, target):
+    if is_inside(image, moved, target):
         raise IntoItself(f"{path} cannot be moved to {new}")
     if former:
         if _is_folder(image, former) or _is_folder(image, moved):
@@ -137,9 +132,7 @@ def rename_name(image, path, new):
         drop_entry(image, folder, name)
         put_child(image, target, new_name, moved)
         return _drop_link(image, former)
-    if target != folder:
-        _check_not_full(image, target)
-    # Tried on a twin first: the block for the new entry may be refused when the old one is dropped.
+    # Tried on a twin first: the new entry may be refused when the old one is dropped.
     _move_entry(image.twin(), (folder, name), (target, new_name), moved)
     _move_entry(image, (folder, name), (target, new_name), moved)
     return 0

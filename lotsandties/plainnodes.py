@@ -5,6 +5,7 @@
 
 from lotsandties.errors import NoSuchName, NotAFile, NotAFolder, RootFixed, TooManySigns
 from lotsandties.fields import ROOT
+from lotsandties.treepaths import reached
 from lotsandties.walks import MOST_SIGNS, path_names
 
 
@@ -72,6 +73,11 @@ def plain_file(nodes, path):
     return n
 
 
+def plain_names(nodes, n):
+    """Return the tuples of name and child behind node n."""
+    return list(nodes[n].children.items())
+
+
 def plain_inside(nodes, top, n):
     """Tell if a node is another one or can be reached from it through folders."""
-    return n == top or any(plain_inside(nodes, child, n) for child in list(nodes[top].children.values()))
+    return n in reached(top, lambda folder: plain_names(nodes, folder))

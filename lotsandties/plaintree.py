@@ -15,7 +15,15 @@ from lotsandties.errors import (
 from lotsandties.fields import ROOT
 from lotsandties.folders import MOST_NAMES
 from lotsandties.naming import MOST_LINKS
-from lotsandties.plainnodes import PlainNode, plain_file, plain_inside, plain_named, plain_parent, plain_walk
+from lotsandties.plainnodes import (
+    PlainNode,
+    plain_file,
+    plain_inside,
+    plain_named,
+    plain_names,
+    plain_parent,
+    plain_walk,
+)
 from lotsandties.plan import Plan
 from lotsandties.reading import rows_text
 from lotsandties.treepaths import all_paths, first_paths
@@ -31,6 +39,23 @@ def _check_not_full(nodes, folder):
         raise FolderFull("the folder has eight names")
 
 
+def _put_name(nodes, folder, name, n):
+    children = nodes[folder].children
+    children[name] = n
+
+
+def _drop_name(nodes, folder, name):
+    children = nodes[folder].children
+    del children[name]
+
+
+def _drop_link(nodes, n):
+    node = nodes[n]
+    node.links -= 1
+    if node.links == 0:
+        del nodes[n]
+
+
 def _do_make(nodes, deed):
     folder, name = plain_parent(nodes, deed[1])
     _check_not_taken(nodes, folder, name)
@@ -40,40 +65,35 @@ def _do_make(nodes, deed):
         made.leads = deed[3]
     n = max(list(nodes)) + 1
     nodes[n] = made
-    nodes[folder].children[name] = n
+    _put_name(nodes, folder, name, n)
 
 
 def _do_resign(nodes, deed):
-    n = plain_walk(nodes, deed[1], follow=False)
-    if nodes[n].shape != "sign":
+    node = nodes[plain_walk(nodes, deed[1], follow=False)]
+    if node.shape != "sign":
         raise NotASign(f"not a sign: {deed[1]}")
-    nodes[n].leads = deed[2]
+    node.leads = deed[2]
 
 
 def _do_link(nodes, deed):
     n = plain_walk(nodes, deed[1], follow=False)
-    if nodes[n].shape == "folder":
+    node = nodes[n]
+    if node.shape == "folder":
         raise NotAFile(f"a folder has one name only: {deed[1]}")
     folder, name = plain_parent(nodes, deed[2])
     _check_not_taken(nodes, folder, name)
-    if nodes[n].links >= MOST_LINKS:
+    if node.links >= MOST_LINKS:
         raise TooManyLinks("a node has at most 60 links")
     _check_not_full(nodes, folder)
-    nodes[folder].children[name] = n
-    nodes[n].links += 1
-
-
-def _drop_link(nodes, n):
-    nodes[n].links -= 1
-    if nodes[n].links == 0:
-        del nodes[n]
+    _put_name(nodes, folder, name, n)
+    node.links += 1
 
 
 def _do_unlink(nodes, deed):
     folder, name, n = plain_named(nodes, deed[1])
     if nodes[n].shape == "folder":
         raise NotAFile(f"a folder: {deed[1]}")
-    del nodes[folder].children[name]
+    _drop_name(nodes, folder, name)
     _drop_link(nodes, n)
 
 
@@ -83,7 +103,7 @@ def _do_rmdir(nodes, deed):
         raise NotAFolder(f"not a folder: {deed[1]}")
     if len(nodes[n].children) > 0:
         raise FolderNotEmpty(f"the folder has names: {deed[1]}")
-    del nodes[folder].children[name]
+    _drop_name(nodes, folder, name)
     del nodes[n]
 
 
@@ -101,8 +121,8 @@ def _do_rename(nodes, deed):
         _drop_link(nodes, former)
     elif target != folder:
         _check_not_full(nodes, target)
-    del nodes[folder].children[name]
-    nodes[target].children[new_name] = moved
+    _drop_name(nodes, folder, name)
+    _put_name(nodes, target, new_name, moved)
 
 
 def _sized(cells, size):
@@ -116,22 +136,22 @@ def _check_length(size):
 
 
 def _do_write(nodes, deed):
-    n = plain_file(nodes, deed[1])
+    node = nodes[plain_file(nodes, deed[1])]
     at = deed[2]
     end = at + len(deed[3])
     _check_length(end)
-    cells = nodes[n].cells
-    nodes[n].cells = _sized(cells, at) + deed[3] + cells[end:]
+    node.cells = _sized(node.cells, at) + deed[3] + node.cells[end:]
 
 
 def _do_cut(nodes, deed):
-    n = plain_file(nodes, deed[1])
+    node = nodes[plain_file(nodes, deed[1])]
     _check_length(deed[2])
-    nodes[n].cells = _sized(nodes[n].cells, deed[2])
+    node.cells = _sized(node.cells, deed[2])
 
 
 def _do_own(nodes, deed):
-    nodes[plain_walk(nodes, deed[1])].owner = deed[2]
+    node = nodes[plain_walk(nodes, deed[1])]
+    node.owner = deed[2]
 
 
 def _do_open(nodes, deed):
@@ -179,7 +199,7 @@ class PlainTree:
     def rows(self):
         """Return the tree rows."""
         nodes = self._nodes
-        paths = all_paths(lambda folder: list(nodes[folder].children.items()))
+        paths = all_paths(lambda folder: plain_names(nodes, folder))
         firsts = first_paths(paths)
         rows = []
         for path, n in paths:

@@ -1,7 +1,7 @@
 """The plain reading of an image: its tree rows."""
 
 from lotsandties.fields import FILE, FOLDER, KIND, LINKS, OWNER
-from lotsandties.folders import folder_entries
+from lotsandties.folders import folder_entries, names_behind
 from lotsandties.nodes import node_cell
 from lotsandties.signs import sign_path
 from lotsandties.texts import words_of
@@ -12,13 +12,9 @@ from lotsandties.wordrows import file_words
 KIND_NAMES = ("unmade", "file", "folder", "sign")
 
 
-def _names_behind(image, n):
-    return folder_entries(image, n) if node_cell(image, n, KIND) == FOLDER else []
-
-
 def tree_paths(image):
     """Return the tuples of path and node of all paths of an image, ascending by path."""
-    return all_paths(lambda n: _names_behind(image, n))
+    return all_paths(lambda n: names_behind(image, n))
 
 
 def read_node_words(image, n):

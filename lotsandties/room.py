@@ -1,7 +1,6 @@
 """How many free blocks a deed needs."""
 
 from lotsandties.acting import do_deed
-from lotsandties.deeds import check_deed
 from lotsandties.errors import BlocksFull, OverQuota, Refused
 from lotsandties.fields import PLACES
 from lotsandties.folders import find_child, has_empty_entry, has_neighbours
@@ -49,7 +48,6 @@ def _write_room(image, path, at, words):
 
 def room_needed(image, deed):
     """Return how many logged and how many plain blocks must be free for a deed."""
-    check_deed(deed)
     if _is_refused(image, deed):
         return NO_ROOM
     kind = deed[0]

@@ -137,7 +137,8 @@ class Store:
 
     def barrier(self):
         """Make all pending writes sure, in the order of issue."""
-        for w in [write[0] for write in self.disk.pending()]:
+        writes = [write[0] for write in self.disk.pending()]
+        for w in writes:
             self.sure(w)
 
     def home(self, x):

@@ -1,6 +1,22 @@
-"""The paths of a tree of names."""
+"""Trees of names, and the paths in them.
+
+names_of is everywhere a function from a node to the list of the tuples of name and child behind it.
+"""
 
 from lotsandties.fields import ROOT
+
+
+def reached(top, names_of):
+    """Return a node and all nodes that are reached from it, each once."""
+    met = [top]
+    at = 0
+    while at < len(met):
+        children = [child for _, child in names_of(met[at])]
+        for child in children:
+            if child not in met:
+                met.append(child)
+        at += 1
+    return met
 
 
 def _joined(path, name):
@@ -8,10 +24,7 @@ def _joined(path, name):
 
 
 def all_paths(names_of):
-    """Return the tuples of path and node of all paths, ascending by path.
-
-    names_of is a function from a node to the list of the tuples of name and child behind it.
-    """
+    """Return the tuples of path and node of all paths, ascending by path."""
     paths = [(".", ROOT)]
     at = 0
     while at < len(paths):

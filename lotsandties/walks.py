@@ -2,9 +2,10 @@
 
 from lotsandties.errors import NoSuchName, NotAFile, NotAFolder, RootFixed, TooManySigns
 from lotsandties.fields import FILE, FOLDER, KIND, ROOT, SIGN
-from lotsandties.folders import find_child, folder_entries
+from lotsandties.folders import find_child, names_behind
 from lotsandties.nodes import node_cell
 from lotsandties.signs import sign_path
+from lotsandties.treepaths import reached
 
 MOST_SIGNS = 8
 
@@ -69,13 +70,4 @@ def walk_file(image, path):
 
 def is_inside(image, top, n):
     """Tell if a node is another one or can be reached from it through folders."""
-    met = [top]
-    at = 0
-    while at < len(met):
-        if node_cell(image, met[at], KIND) == FOLDER:
-            for _, child in folder_entries(image, met[at]):
-                # A node is met once, so that folders in a circle come to an end.
-                if child not in met:
-                    met.append(child)
-        at += 1
-    return n in met
+    return n in reached(top, lambda folder: names_behind(image, folder))

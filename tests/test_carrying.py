@@ -94,6 +94,12 @@ class CarriedTest(unittest.TestCase):
         after, _ = do_deed(new, ("cut", "f", 40))
         self.assertEqual(read_tree(after)[1][5], (1,) * 9 + (0,) * 31)
 
+    def test_the_place_right_behind_the_size(self):
+        image = done(("file", "f", 0), ("write", "f", 0, (1,) * 16), ("write", "f", 16, (1,) * 16), ("cut", "f", 8))
+        self.assertEqual([o for o in range(10) if place_block(image, 2, o)], [0, 1])
+        new = self.check(image, small_plan())
+        self.assertEqual([o for o in range(10) if place_block(new, 2, o)], [0])
+
     def test_holes_and_blocks_of_zeros(self):
         image = done(("file", "f", 0), ("write", "f", 24, (0,)), ("write", "f", 72, (0,)), ("cut", "f", 73))
         new = self.check(image, small_plan())

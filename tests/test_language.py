@@ -224,6 +224,40 @@ class LanguageTest(unittest.TestCase):
                 if isinstance(node, ast.Attribute):
                     self.assertIn(node.attr, own | METHODS | {"__init__"}, f"{name} {node.lineno}")
 
+    def test_attributes_are_assigned_through_local_names(self):
+        for name, tree in trees().items():
+            for node in ast.walk(tree):
+                if isinstance(node, ast.Attribute) and not isinstance(node.ctx, ast.Load):
+                    self.assertIsInstance(node.value, ast.Name, f"{name} {node.lineno}")
+
+    def test_no_name_is_a_method_and_an_attribute_of_one_class(self):
+        for name, tree in trees().items():
+            for node in ast.walk(tree):
+                if isinstance(node, ast.ClassDef):
+                    methods = {part.name for part in node.body if isinstance(part, ast.FunctionDef)}
+                    kept = {part.attr for part in ast.walk(node) if isinstance(part, ast.Attribute)
+                            and isinstance(part.ctx, ast.Store) and part.value.id == "self"}
+                    self.assertEqual(methods & kept, set(), f"{name} {node.name}")
+
+    def test_generators_are_iterated_at_once(self):
+        generators = {node.name for tree in trees().values() for node in functions_of(tree)
+                      if any(isinstance(part, (ast.Yield, ast.YieldFrom)) for part in ast.walk(node))}
+        whole = {"list", "tuple", "dict", "sorted", "sum", "min", "max", "any", "all", "enumerate"}
+        for name, tree in trees().items():
+            called = [node.name for node in functions_of(tree) if node.name in generators]
+            self.assertEqual(len(called), len(set(called)), name)
+            fine = []
+            for node in ast.walk(tree):
+                if isinstance(node, (ast.For, ast.comprehension)):
+                    fine.append(node.iter)
+                elif isinstance(node, ast.Call) and isinstance(node.func, ast.Name) and node.func.id in whole:
+                    fine.extend(node.args)
+                elif isinstance(node, ast.YieldFrom):
+                    fine.append(node.value)
+            for node in ast.walk(tree):
+                if isinstance(node, ast.Call) and isinstance(node.func, ast.Name) and node.func.id in generators:
+                    self.assertIn(node, fine, f"{name} {node.lineno}")
+
     def test_strings_and_words(self):
         for name, tree in trees().items():
             docstrings = docstrings_of(tree)

@@ -120,6 +120,20 @@ class PlainTest(unittest.TestCase):
         plain.do(("unlink", spots[58]))
         self.refused(FolderFull, plain, ("link", "a/a", "a/x"))
 
+    def test_eight_signs_and_nine(self):
+        names = ["a", "b", "c", "d", "e", "f", "g", "x/h", "x/i"]
+        for many in (8, 9):
+            plain = tree(("folder", "x", 0), ("file", "x/j", 0))
+            for name, text in zip(names[:many], names[1:many] + ["x/j"]):
+                plain.do(("sign", name, 0, text))
+            self.assertIsNone(plain.do(("open", names[many - 8])))
+            self.assertIsNone(plain.do(("write", names[many - 8], 0, (many,))))
+            self.assertEqual(plain.rows()[-1][5], (many,))
+            if many == 9:
+                self.refused(TooManySigns, plain, ("open", "a"), ("write", "a", 0, (1,)), ("own", "a", 1))
+                plain.do(("resign", "a", "c"))
+                plain.do(("own", "a", 3))
+
     def test_rename(self):
         plain = tree(("file", "f", 1), ("file", "g", 2), ("link", "g", "h"), ("folder", "d", 0), ("folder", "d/e", 0),
                      ("sign", "s", 0, "d/e"))

@@ -6,7 +6,7 @@ from helpers import check_sound, done, refused, state, used, wide_plan
 
 from lotsandties.errors import ListFull, NotOnList
 from lotsandties.naming import make_name, unlink_name
-from lotsandties.nodes import made_nodes, node_cell, put_node_cell
+from lotsandties.nodes import made_nodes, make_node, node_cell, put_node_cell
 from lotsandties.places import held_blocks, place_block
 from lotsandties.removing import begin_removal, one_piece
 from lotsandties.sizes import enlist, listed, set_size
@@ -40,6 +40,12 @@ class BeginTest(unittest.TestCase):
         self.assertEqual((made_nodes(image), used(image)), ([1], [0, 0, 0, 0]))
         self.assertEqual(image.cells[image.plan.node_block(2)], [0, 0, 0, 0, 0, 0, 0, 1])
         check_sound(self, image)
+
+    def test_a_sign_without_a_text(self):
+        image = done(("file", "f", 0))
+        make_node(image, 3, 1)
+        self.assertEqual(begin_removal(image, 3), 1)
+        self.assertEqual((made_nodes(image), used(image)), ([1, 2], [1, 0, 0, 0]))
 
     def test_files_of_two_places_at_most(self):
         for places in ((), (0,), (1,), (5,), (0, 1), (1, 9), (2, 3)):
