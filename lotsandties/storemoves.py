@@ -35,8 +35,8 @@ def _copy_rows(store):
 
 
 def _unsent_rows(store):
-    busy = [place[1] for _, place, _ in store.disk.pending() if place[0] == "home"]
-    unsent = unsent_blocks(store.closing.image, store.committed, store.home_ids, busy)
+    # A barrier comes before these rows, so no home is busy.
+    unsent = unsent_blocks(store.closing.image, store.committed, store.home_ids, [])
     return [("words", x) for x in unsent] + [BARRIER]
 
 

@@ -219,7 +219,7 @@ class HomesTest(unittest.TestCase):
         self.assertTrue(may_leave([lot(1, 12, identity=(right[0] + 1, right[1]))], committed, ids, [12]))
         self.assertTrue(may_leave([lot(1, 12, identity=(0, 0))], committed, ids, [12]))
         # A free block has the holding 0, too, but 0 does not count.
-        self.assertTrue(may_leave([lot(1, 20, identity=(0, 0))], committed, ids, []))
+        self.assertTrue(may_leave([lot(1, 20, identity=(0, 0))], committed, ids, [20]))
         # Only the oldest lot is asked.
         self.assertTrue(may_leave([lot(1), old], committed, ids, []))
         two = Lot(1, None)
@@ -246,6 +246,10 @@ class HomesTest(unittest.TestCase):
         other = image.twin()
         other.stamps[13] += 1
         self.assertTrue(may_tell(image, other, ids, []))
+        # A block that the committed image has free is not held.
+        other.cells[3][5] = 0
+        self.assertEqual((other.kind(13), other.holdings[13]), (0, image.holdings[13]))
+        self.assertFalse(may_tell(image, other, ids, []))
         # Blocks that only the committed image holds plain do not count.
         extra = image.twin()
         extra.cells[4][4] = 2

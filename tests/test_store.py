@@ -747,6 +747,19 @@ class RoomTest(unittest.TestCase):
         self.assertEqual((store.disk.head, store.window, store.home_ids[10]), (2, [], (0, 0)))
         kept_out(self, LogEmpty, store.room, store)
 
+    def test_pending_copies_keep_no_home_busy(self):
+        store = new_store(without("copies"))
+        store.do(FILE)
+        store.close()
+        for x in store.due():
+            store.copy(x)
+        store.sure(store.mark())
+        self.assertEqual([place for _, place, _ in store.disk.pending()], [("log", slot) for slot in range(5)])
+        for x in (0, 3, 5, 6, 10):
+            store.sure(store.home(x))
+        store.room()
+        self.assertEqual((store.disk.head, len(store.disk.pending())), (1, 5))
+
     def test_the_head_moves_at_once(self):
         store = commit(new_store(without("room")), FILE)
         store.home(10)
