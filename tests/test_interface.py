@@ -49,6 +49,16 @@ FUNCTIONS = {
     "comingup": ["image_after(disk, *, lapse)", "come_up(disk, book)"],
     "finishing": ["finish(store)"],
     "allcuts": ["cut_stores(store)", "cut_fault(store)"],
+    "standings": ["kind_c(standing)", "kind_r(standing)", "content_c(standing)", "content_r(standing)",
+                  "is_due(standing)", "is_standing(signs)", "is_bad(standing)"],
+    "letters": ["after(standing, letter, book)", "let_letters(standing, book)", "standings_along(life, book)"],
+    "judge": ["is_right(book)"],
+    "sorting": ["least_books(base, names)", "mends(book)"],
+    "partings": ["parting(book, other)", "plain_book(book)"],
+    "lifetext": ["life_text(life)", "standing_text(standing)", "table_text(book)", "read_life(text)",
+                 "read_standing(text)"],
+    "lifescript": ["script_of(life, book, plan, x)"],
+    "shadow": ["standing_of(store, x)", "deed_letters(before, image, x)"],
 }
 
 GENERATORS = {"cuts": ["keeps", "cut_disks"], "walks": ["visited"], "playing": ["steps"], "allcuts": ["cut_stores"]}
@@ -76,10 +86,14 @@ METHODS = {
                          "do(self, deed, *, wish=0)", "close(self)", "due(self)", "uncopied(self)", "copy(self, x)",
                          "mark(self)", "sure(self, w)", "barrier(self)", "home(self, x)", "early(self, x)",
                          "words(self, x)", "room(self)", "told(self)", "cut(self, keep)"],
+    ("judge", "Table"): ["__init__(self, book)", "__contains__(self, standing)", "__iter__(self)", "closed(self)",
+                         "shortest(self)", "life_to(self, standing)"],
+    ("tiebooks", "TieBook"): ["read(text)", "of_number(number)", "full()", "__or__(self, other)",
+                              "__sub__(self, other)"],
 }
 
 STATIC = {("plan", "Plan"): ["read"], ("books", "Book"): ["read", "of_number", "full"],
-          ("image", "Image"): ["fresh", "of_cells"]}
+          ("image", "Image"): ["fresh", "of_cells"], ("tiebooks", "TieBook"): ["read", "of_number", "full"]}
 
 REFUSED = """NoSuchName NameTaken NotAFolder NotAFile NotASign FolderNotEmpty FolderFull NodesFull BlocksFull
     OverQuota TooLong TooManyLinks TooManySigns IntoItself Unfinished ListFull RootFixed NotOnList NotOpen InUse"""
@@ -123,7 +137,9 @@ class InterfaceTest(unittest.TestCase):
         store = load("store").Store
         self.assertIsInstance(vars(store)["present"], property)
         self.assertIsInstance(vars(store)["resumed"], classmethod)
-        self.assertEqual(load("books").Book.__bases__, (load("rulesets").RuleSet,))
+        self.assertIsInstance(vars(load("judge").Table)["right"], property)
+        for module, name in (("books", "Book"), ("tiebooks", "TieBook")):
+            self.assertEqual(getattr(load(module), name).__bases__, (load("rulesets").RuleSet,))
 
     def test_errors(self):
         errors = load("errors")
