@@ -1,16 +1,14 @@
 """Folders: their entries, which give names to nodes."""
 
+from lotsandties.entries import BLOCK_ENTRIES, EMPTY_ENTRY, TIE_BASE, entry_cells, put_entry, tie_of
 from lotsandties.errors import FolderFull, NameTaken, NoSuchName
 from lotsandties.fields import FOLDER, KIND, MAKING, SIZE
 from lotsandties.nodes import node_cell, put_node_cell
 from lotsandties.places import drop_place, place_block, take_logged
 from lotsandties.texts import code_name, name_code
 
-BLOCK_ENTRIES = 4
 FOLDER_PLACES = 2
 MOST_NAMES = 8
-# A tie is the making of a node times this number plus the node.
-TIE_BASE = 64
 
 
 def _entry_spots(image, n):
@@ -20,15 +18,11 @@ def _entry_spots(image, n):
 
 
 def _entry_cells(image, spot):
-    """Return the code and the tie of an entry."""
-    x, j = spot
-    return (image.cells[x][2 * j], image.cells[x][2 * j + 1])
+    return entry_cells(image.cells, spot[0], spot[1])
 
 
 def _put_entry(image, spot, code, tie):
-    x, j = spot
-    image.cells[x][2 * j] = code
-    image.cells[x][2 * j + 1] = tie
+    put_entry(image.cells, spot[0], spot[1], (code, tie))
 
 
 def _find_spot(image, n, name):
@@ -47,8 +41,8 @@ def _named_spot(image, n, name):
     return spot
 
 
-def _tie_of(image, child):
-    return node_cell(image, child, MAKING) * TIE_BASE + child
+def _tie_to(image, child):
+    return tie_of(node_cell(image, child, MAKING), child)
 
 
 def _add_to_size(image, n, step):
@@ -73,7 +67,7 @@ def find_child(image, n, name):
 
 
 def _is_empty(image, spot):
-    return _entry_cells(image, spot) == (0, 0)
+    return _entry_cells(image, spot) == EMPTY_ENTRY
 
 
 def has_empty_entry(image, n):
@@ -104,14 +98,14 @@ def add_entry(image, n, name, child):
     if len(folder_entries(image, n)) == MOST_NAMES:
         raise FolderFull("the folder has eight names")
     spot = _empty_spot(image, n)
-    _put_entry(image, spot, name_code(name), _tie_of(image, child))
+    _put_entry(image, spot, name_code(name), _tie_to(image, child))
     _add_to_size(image, n, 1)
 
 
 def put_child(image, n, name, child):
     """Let a name of folder n lead to another node."""
     spot = _named_spot(image, n, name)
-    _put_entry(image, spot, name_code(name), _tie_of(image, child))
+    _put_entry(image, spot, name_code(name), _tie_to(image, child))
 
 
 def drop_entry(image, n, name):

@@ -17,7 +17,8 @@ def place_block(image, n, o):
     return image.cells[block][o - NODE_PLACES] if block else 0
 
 
-def _put_place(image, n, o, x):
+def put_place(image, n, o, x):
+    """Set the block of place o of node n; 0 makes it a hole."""
     if o < NODE_PLACES:
         put_node_cell(image, n, FIRST_PLACE + o, x)
     else:
@@ -33,7 +34,7 @@ def _fill_place(image, n, o):
     if _needs_block_of_places(image, n, o):
         put_node_cell(image, n, PLACES, image.take(Plan.LOGGED, owner))
     x = image.take(Plan.PLAIN, owner)
-    _put_place(image, n, o, x)
+    put_place(image, n, o, x)
     return x
 
 
@@ -54,7 +55,7 @@ def take_logged(image, n, o):
     if x:
         return x
     x = image.take(Plan.LOGGED, node_cell(image, n, OWNER))
-    _put_place(image, n, o, x)
+    put_place(image, n, o, x)
     return x
 
 
@@ -70,7 +71,7 @@ def drop_place(image, n, o):
     x = place_block(image, n, o)
     if x:
         image.give(x, node_cell(image, n, OWNER))
-        _put_place(image, n, o, 0)
+        put_place(image, n, o, 0)
         _drop_block_of_places(image, n)
 
 

@@ -77,13 +77,18 @@ class Store:
     def do(self, deed, *, wish=0):
         """Do a deed on the running image and return its answer."""
         image, answer = do_deed(self.image, deed, wish=wish, barred=self._barred())
-        if "wait" in self.book:
-            for x in self.uncopied():
-                if image.identity(x) != self.image.identity(x):
-                    raise NotLet("wait")
+        self._check_wait(self.image, image)
         self.image = image
         self.chronicle.note_deed(image)
         return answer
+
+    def check_deeds(self, deeds):
+        """Raise the error that one of several deeds would raise if they were done one after the other."""
+        images = [self.image]
+        for deed in deeds:
+            images.append(do_deed(images[-1], deed, barred=self._barred())[0])
+        for before, image in zip(images, images[1:]):
+            self._check_wait(before, image)
 
     def close(self):
         """Close the running lot."""
@@ -184,6 +189,13 @@ class Store:
     def cut(self, keep):
         """Return the disk that is found after a sudden stop."""
         return self.disk.cut(keep)
+
+    def _check_wait(self, before, image):
+        """Raise NotLet if a deed that makes one image from another changes a block that is still to be copied."""
+        if "wait" in self.book:
+            for x in self.uncopied():
+                if image.identity(x) != before.identity(x):
+                    raise NotLet("wait")
 
     def _closing_image(self):
         return None if self.closing is None else self.closing.image

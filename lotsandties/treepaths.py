@@ -19,7 +19,8 @@ def reached(top, names_of):
     return met
 
 
-def _joined(path, name):
+def joined(path, name):
+    """Return the path of a name in the folder with a path."""
     return name if path == "." else f"{path}/{name}"
 
 
@@ -29,7 +30,7 @@ def all_paths(names_of):
     at = 0
     while at < len(paths):
         path, n = paths[at]
-        paths.extend([(_joined(path, name), child) for name, child in names_of(n)])
+        paths.extend([(joined(path, name), child) for name, child in names_of(n)])
         at += 1
     return sorted(paths)
 
