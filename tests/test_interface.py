@@ -59,9 +59,20 @@ FUNCTIONS = {
                  "read_standing(text)"],
     "lifescript": ["script_of(life, book, plan, x)"],
     "shadow": ["standing_of(store, x)", "deed_letters(before, image, x)"],
+    "tietable": ["tie_start(entries)", "tie_letters(entries)", "tie_after(standing, letter, book)",
+                 "tie_bad(standing, book)"],
+    "tiejudge": ["tie_closed(book, *, entries=2)", "tie_shortest(book, *, entries=2)",
+                 "tie_is_right(book, *, entries=2)", "tie_least(names, *, entries=2)"],
+    "tiescript": ["tie_script(life)", "play_ties(store, rows)"],
+    "findings": ["findings(image, *, numbered=True)"],
+    "mending": ["losses(found)", "mended(image, *, numbered=True)"],
+    "checking": ["is_clean(image)", "home_image(disk, plan)"],
+    "undoing": ["backwards(image, deed)"],
+    "deskrows": ["say(desk, line)", "talk(desk, lines)"],
 }
 
-GENERATORS = {"cuts": ["keeps", "cut_disks"], "walks": ["visited"], "playing": ["steps"], "allcuts": ["cut_stores"]}
+GENERATORS = {"cuts": ["keeps", "cut_disks"], "walks": ["visited"], "playing": ["steps"], "allcuts": ["cut_stores"],
+              "tietable": ["tie_letters"], "mending": ["losses"], "deskrows": ["talk"]}
 
 METHODS = {
     ("plan", "Plan"): ["__init__(self, blocks, *, nodes, slots)", "read(line)", "text(self)", "map_place(self, x)",
@@ -90,6 +101,16 @@ METHODS = {
                          "shortest(self)", "life_to(self, standing)"],
     ("tiebooks", "TieBook"): ["read(text)", "of_number(number)", "full()", "__or__(self, other)",
                               "__sub__(self, other)"],
+    ("tiestore", "TieStore"): ["__init__(self, plan, book)", "__contains__(self, name)", "tied_names(self)",
+                               "make(self, name, owner, *, at=0)", "link(self, name, new, *, at=0)",
+                               "drop(self, name)", "move(self, name, new, *, at=0)", "out_node(self, n)",
+                               "out_entry(self, j)", "told(self)", "faults(self)", "cut(self)",
+                               "resumed(cls, book, image)", "standing(self, n)"],
+    ("desk", "Desk"): ["__init__(self, plan, book)", "join(self, name)", "ask(self, name, deed)", "leave(self, name)",
+                       "save(self, label)", "drop(self, label)", "move(self, plan)", "turn(self, name, *, wish=0)",
+                       "undo(self)", "flush(self)", "stop(self, keep)", "client_names(self)",
+                       "waiting_deeds(self, name)", "open_nodes(self, name)", "rows(self)", "saved(self, label)",
+                       "check(self)"],
 }
 
 STATIC = {("plan", "Plan"): ["read"], ("books", "Book"): ["read", "of_number", "full"],
@@ -138,6 +159,10 @@ class InterfaceTest(unittest.TestCase):
         self.assertIsInstance(vars(store)["present"], property)
         self.assertIsInstance(vars(store)["resumed"], classmethod)
         self.assertIsInstance(vars(load("judge").Table)["right"], property)
+        ties = load("tiestore").TieStore
+        self.assertIsInstance(vars(ties)["agrees"], property)
+        self.assertIsInstance(vars(ties)["resumed"], classmethod)
+        self.assertEqual(vars(ties)["ENTRIES"], 8)
         for module, name in (("books", "Book"), ("tiebooks", "TieBook")):
             self.assertEqual(getattr(load(module), name).__bases__, (load("rulesets").RuleSet,))
 
