@@ -43,9 +43,10 @@ def _play_row(store, row):
     return 0
 
 
-def _outcome(store, row):
+def outcome_of(play_row, store, row):
+    """Do a row on a store by a function and return the outcome."""
     try:
-        return ("done", _play_row(store, row))
+        return ("done", play_row(store, row))
     except Refused:
         return ("refused", "")
     except NotNow:
@@ -59,7 +60,7 @@ def steps(store, rows):
     for row in rows:
         check_row(row)
     for row in rows:
-        yield (row, _outcome(store, row))
+        yield (row, outcome_of(_play_row, store, row))
         if row[0] == "cut":
             return
 

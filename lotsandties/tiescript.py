@@ -1,7 +1,8 @@
 """Playing lives of nodes on stores without a log."""
 
-from lotsandties.errors import BadValue, NotLet, Refused
+from lotsandties.errors import BadValue
 from lotsandties.plan import Plan
+from lotsandties.playing import outcome_of
 from lotsandties.texts import LETTERS
 from lotsandties.tiebooks import TieBook
 from lotsandties.tiestore import TieStore
@@ -90,15 +91,6 @@ def _play_row(store, row):
     return 0
 
 
-def _outcome(store, row):
-    try:
-        return ("done", _play_row(store, row))
-    except Refused:
-        return ("refused", "")
-    except NotLet as error:
-        return ("notlet", error.rule)
-
-
 def play_ties(store, rows):
     """Do rows on a store without a log, also behind a refused one, and return the outcomes."""
-    return [_outcome(store, row) for row in rows]
+    return [outcome_of(_play_row, store, row) for row in rows]

@@ -129,7 +129,7 @@ class TieStore:
         cells = self.cache.cells
         if any(self._entry(cells, j) != self._entry(self.home, j) for j in range(self.ENTRIES)):
             return False
-        return all(self._made(cells, n) == self._made(self.home, n) for n in self._nodes())
+        return all(self._made(cells, n) == self._made(self.home, n) for n in self._file_nodes())
 
     def faults(self):
         """Return what a stop would lose or mix up."""
@@ -148,12 +148,12 @@ class TieStore:
         return (
             1 if is_made(self.cache, n) else 0,
             tuple([1 if tie % TIE_BASE == n else 0 for tie in ties]),
-            self._record(n, making),
+            self._disk_sign(n, making),
             tuple([self._mark(tie, n, making) for tie in marks]),
             1 if n in self.told_makings else 0,
         )
 
-    def _record(self, n, making):
+    def _disk_sign(self, n, making):
         """Return the sign of the node on the disk."""
         made = self._made(self.home, n)
         if made is None:
@@ -166,7 +166,7 @@ class TieStore:
             return NONE
         return NEW if tie == tie_of(making, n) else OLD
 
-    def _nodes(self):
+    def _file_nodes(self):
         return list(range(ROOT + 1, self.plan.nodes + 1))
 
     def _made(self, cells, n):
@@ -175,7 +175,7 @@ class TieStore:
         return None if node[KIND] == UNMADE else node[MAKING]
 
     def _makings(self):
-        makings = {n: self._made(self.cache.cells, n) for n in self._nodes()}
+        makings = {n: self._made(self.cache.cells, n) for n in self._file_nodes()}
         return {n: making for n, making in makings.items() if making is not None}
 
     def _backs(self, cells, tie):
@@ -215,7 +215,7 @@ class TieStore:
 
     def _free_node(self):
         tied = [self._entry(self.home, j)[1] % TIE_BASE for j in range(self.ENTRIES)]
-        for n in self._nodes():
+        for n in self._file_nodes():
             if not is_made(self.cache, n) and not ("after" in self.book and n in tied):
                 return n
         raise NodesFull("there is no node for a file")

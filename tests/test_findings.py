@@ -138,6 +138,30 @@ class FindingsTest(unittest.TestCase):
             self.finds({6: {cell: number}}, folder)
         self.finds({6: {2: 9}}, [("size", 2)])
 
+    def test_kinds_of_nodes(self):
+        # The sign, the folder and the file, each in the shape of what it is, but of a kind that there is not.
+        for n, number in ((4, 4), (4, 999999999), (2, 5)):
+            found = findings(spoilt(done(*DEEDS), {4 + n: {0: number}}))
+            self.assertEqual(found[0], ("node", n))
+
+    def test_long_texts_of_signs(self):
+        image = done(("sign", "s", 0, "a/b/c/d/e/f/g/h"))
+        self.finds({}, [], image=image)
+        self.finds({6: {2: 9}}, [("node", 2), ("entry", 1, 0), ("empty", 1, 0), ("size", 1), ("map", 10), ("map", 11),
+                                 ("used", 0)], image=image)
+
+    def test_the_last_node(self):
+        plan = Plan(24, nodes=2, slots=30)
+        image = done(("file", "f", 0), ("write", "f", 0, (1,) * 16), ("write", "f", 16, (1,)), ("cut", "f", 0), plan=plan)
+        self.assertEqual(image.cells[1][0], 2)
+        self.finds({}, [], image=image)
+
+    def test_makings_count_if_nothing_else_is_said(self):
+        image = spoilt(done(*DEEDS), {10: {7: tie(3, 2), 6: 1}})
+        self.assertEqual(findings(image), [("entry", 1, 3)])
+        self.assertEqual(mended(image)[1], [("entry", 1, 3)])
+        self.assertIs(is_clean(spoilt(done(*DEEDS), {10: {5: tie(3, 2)}})), False)
+
     def test_nodes_are_read_in_order(self):
         self.finds({5: {1: 2}, 8: {2: 0}, 9: {4: 3}},
                    [("root",), ("node", 4), ("record", 5), ("entry", 1, 1), ("size", 1), ("map", 16), ("used", 3)])

@@ -47,6 +47,12 @@ BARRED_WORDS = re.compile(
     r"|NamedTuple|TypedDict|TYPE_CHECKING|abstractmethod)\b|dataclass|overload|contextmanager"
 )
 
+# L12: names that are not used, and beginnings that names do not have.
+BARRED_FORMS = re.compile(
+    r"_wall|_pe_|_dcw_|_enum_|_cm_|_twin_re_|_lay_|_law_|_stub_|_sre|_WallAttr"
+    r"|(_cold|_tuplegetter|_outside|_record|_written_out|_member_names)[0-9_]*$"
+)
+
 BARRED_NODES = (
     ast.AsyncFunctionDef, ast.AsyncFor, ast.AsyncWith, ast.Await, ast.Import, ast.Div, ast.MatMult, ast.MatchMapping,
 )
@@ -204,6 +210,7 @@ class LanguageTest(unittest.TestCase):
                 self.assertFalse(word in everything and word not in DUNDERS, f"{name} {word}")
                 self.assertNotIn(word, BARRED_NAMES, name)
                 self.assertFalse(word.startswith("__") and word not in DUNDERS, f"{name} {word}")
+                self.assertIsNone(BARRED_FORMS.match(word), f"{name} {word}")
             for node in ast.walk(tree):
                 if isinstance(node, ast.Name) and node.id not in bound:
                     self.assertIn(node.id, BUILTINS, name)

@@ -131,7 +131,8 @@ class LettersTest(unittest.TestCase):
         self.leads("words", ("F-Po--", "F-PR--"), ("P-=o--", "P-=K--"), ("FP=o--", "FP=C--"), ("P==o--", "P==K--"),
                    ("L-PKK-", "L-PRK-"), ("FPPC--", "FPPR--"), ("FLPC--", "FLPR--"), ("FPFo--", "FPFC--"),
                    ("FPLR--", "FPLC--"), ("P=Fo--", "P=FK--"), ("P=LR--", "P=LK--"), ("P-Fo--", None),
-                   ("P-LR--", None), ("F-=o--", None), ("F-Lo--", None), ("LF=KK-", None), ("L-=KK-", None))
+                   ("P-LR--", None), ("F-=o--", None), ("F-Lo--", None), ("LF=KK-", None), ("L-=KK-", None),
+                   ("LPFKK-", "LPFCK-"), ("PPLK--", "PPLC--"))
 
     def test_late(self):
         for book in (only("late"), without("reuse", "shelve")):

@@ -195,6 +195,16 @@ class StandingOfTest(unittest.TestCase):
         store.disk.barrier()
         self.assertEqual(text_of(store), "F-=oo-")
 
+    def test_only_the_lot_that_named_the_live_copy_counts(self):
+        store = commit(commit(with_sign(started())), ("resign", "b", "y"))
+        self.assertEqual([lot.number for lot in store.window], [2, 3])
+        identity = store.committed.identity(X)
+        first, second = store.window
+        first.keep_copy(X, first.copies[X][0], 0, identity)
+        self.assertEqual(text_of(store), "L-=oK-")
+        second.keep_copy(X, second.copies[X][0], 0, (0, 0))
+        self.assertEqual(text_of(store), "L-=oo-")
+
     def test_pending_writes(self):
         store = with_sign(started())
         store.close()

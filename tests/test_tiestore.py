@@ -326,6 +326,21 @@ class TieStoreTest(unittest.TestCase):
         store.out_entry(0)
         self.assertEqual(self.entry(store.home, 0), (0, 0))
 
+    def test_empty_entries_tie_nothing(self):
+        """Whatever lies in front of the block of the first node: an empty entry ties no node."""
+        for plan in (Plan(9, nodes=3, slots=10), Plan(16, nodes=10, slots=17), Plan(17, nodes=4, slots=20)):
+            store = TieStore(plan, FULL)
+            store.make("a", 0, at=2)
+            store.out_node(2)
+            for j in range(8):
+                store.out_entry(j)
+            self.assertTrue(store.agrees)
+            store = TieStore(plan, NONE)
+            self.assertEqual(store.faults(), [])
+            store.make("a", 0, at=2)
+            store.out_entry(2)
+            self.assertEqual(store.faults(), [])
+
     def test_first_comes_before_keep(self):
         store = out(self.named_store(FULL))
         store.move("a", "b", at=3)

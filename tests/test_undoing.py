@@ -220,6 +220,15 @@ class UndoingTest(unittest.TestCase):
         for deed in (("unlink", "f"), ("unlink", "s"), ("rename", "s", "f"), ("rename", "f", "s"), ("cut", "f", 1)):
             self.undo(image, deed)
             self.undo(image, deed, wish=15)
+        # The node of a file with three blocks is free again only behind a piece.
+        image = done(("file", "f", 0), ("write", "f", 5, (1,) * 16), plan=Plan(20, nodes=2, slots=30))
+        self.assertEqual(self.undo(image, ("unlink", "f"))[0], ("piece", 2))
+
+    def test_sizes_without_blocks(self):
+        for size in (1, 8, 80):
+            image = done(("file", "f", 0), ("cut", "f", size))
+            self.assertEqual(self.undo(image, ("unlink", "f")), [("file", "f", 0), ("cut", "f", size)])
+            self.undo(image, ("cut", "f", 0))
 
     def test_deeds_by_chance(self):
         chance = random.Random(61)
